@@ -25,17 +25,19 @@ def is_scheme(thing):
 def require_storage(scheme):
     """Return None, or raise Conflict if an observer set and two fault sets contain all servers."""
     _, servers, _, observers, faults = scheme
+    most = _largest_size(faults)
     for observed in observers:
         for at, fault in enumerate(faults):
-            _require_gap(servers, observed, fault, faults[at:])
+            _require_gap(servers, observed, fault, faults[at:], most)
 
 
 def require_multiplication(scheme):
     """Return None, or raise Conflict if two observer sets and a fault set contain all servers."""
     _, servers, _, observers, faults = scheme
+    most = _largest_size(faults)
     for at, observed in enumerate(observers):
         for other in observers[at:]:
-            _require_gap(servers, observed, other, faults)
+            _require_gap(servers, observed, other, faults, most)
 
 
 def holders(scheme, index):
@@ -72,8 +74,15 @@ def _is_within(names, sets):
     return any(is_subset(names, entry) for entry in sets)
 
 
-def _require_gap(servers, first, second, thirds):
-    """Raise Conflict for the first third set that completes the other two to all servers."""
+def _largest_size(sets):
+    return max(len(names) for names in sets)
+
+
+def _require_gap(servers, first, second, thirds, most):
+    """Raise Conflict for the first third set, of at most `most` names, that adds what the other two lack."""
+    # A scheme beyond the limits may have so many triples that those with too few names must not be searched.
+    if len(first) + len(second) + most < len(servers):
+        return
     missing = [server for server in servers if server not in first and server not in second]
     for third in thirds:
         if is_subset(missing, third):

@@ -134,8 +134,8 @@ class SchemeTest(unittest.TestCase):
         for observers in good:
             self.assertIs(is_scheme(changed(3, observers)), True, observers)
         bad = (
-            (), ("a", "b"), (("b",), ("a",)), (("a",), ("a",)), (("a",), ("a", "b")), ((), ("a",)), (("p",),), (("d",),),
-            (("a", "d"),), (("b", "a"),), (("a", "a"),), [("a",)], (["a"],), (("a", 1),), ("a",), None, True, "a",
+            (), ("a", "b"), (("b",), ("a",)), (("a",), ("a",)), (("a",), ("a", "b")), ((), ("a",)), (("p",),),
+            (("d",),), (("a", "d"),), (("b", "a"),), (("a", "a"),), [("a",)], (["a"],), (("a", 1),), ("a",), None, True, "a",
             (("a", "b"), ("b",)), (("a",), ("a",), ("b",)), {("a",): 1}, (("a",), None), ((), ()), (("A",),),
         )
         for observers in bad:
@@ -223,6 +223,8 @@ class SchemeTest(unittest.TestCase):
         self.assertIs(is_scheme((997, servers, clients, single, single[:7])), True)
         self.assertIs(is_scheme((997, servers, clients, single[:7], single)), False)
         self.assertIs(is_scheme((997, servers, clients, (servers,), single)), True)
+        self.assertIsNone(conflict_of(require_storage, (997, servers, clients, single, single)))
+        self.assertIsNone(conflict_of(require_multiplication, (997, servers, clients, single, single)))
 
 
 class RequireTest(unittest.TestCase):
