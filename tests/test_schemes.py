@@ -135,7 +135,8 @@ class SchemeTest(unittest.TestCase):
             self.assertIs(is_scheme(changed(3, observers)), True, observers)
         bad = (
             (), ("a", "b"), (("b",), ("a",)), (("a",), ("a",)), (("a",), ("a", "b")), ((), ("a",)), (("p",),),
-            (("d",),), (("a", "d"),), (("b", "a"),), (("a", "a"),), [("a",)], (["a"],), (("a", 1),), ("a",), None, True, "a",
+            (("d",),), (("a", "d"),), (("b", "a"),), (("a", "a"),), [("a",)], (["a"],), (("a", 1),), ("a",), None, True,
+            "a",
             (("a", "b"), ("b",)), (("a",), ("a",), ("b",)), {("a",): 1}, (("a",), None), ((), ()), (("A",),),
         )
         for observers in bad:
