@@ -5,7 +5,7 @@ A scheme is a tuple (prime, servers, clients, observers, faults).
 
 from lotkept.errors import Conflict
 from lotkept.integers import is_integer, is_prime
-from lotkept.party_sets import is_ascending, is_party_set, is_subset
+from lotkept.party_sets import is_ascending, is_party_set, is_subset, union
 
 LARGEST_PRIME = 997
 
@@ -44,6 +44,28 @@ def holders(scheme, index):
     """Return the party set of the holders of a share."""
     _, servers, _, observers, _ = scheme
     return tuple(server for server in servers if server not in observers[index])
+
+
+def all_parties(scheme):
+    """Return the party set of all servers and clients."""
+    return union((scheme[1], scheme[2]))
+
+
+def share_count(scheme):
+    """Return how many shares a value has: one for each observer set."""
+    return len(scheme[3])
+
+
+def is_value(scheme, thing):
+    """Return whether any value is a value of the scheme."""
+    return is_integer(thing) and 0 <= thing < scheme[0]
+
+
+def are_parties_within(scheme, thing, sets):
+    """Return whether any value is a party set of servers and clients whose servers are within one of the sets."""
+    if not is_party_set(thing) or not is_subset(thing, all_parties(scheme)):
+        return False
+    return _is_within([party for party in thing if party in scheme[1]], sets)
 
 
 def _is_modulus(thing):
