@@ -352,6 +352,19 @@ class AfterwardsTest(unittest.TestCase):
         self.assertEqual(network.shares_at("d", "z"), (3, 6, 2, None))
         self.assertEqual(network.read("q", "z"), (3, ()))
 
+    def test_an_exposed_holder_has_0_whatever_it_is_sent(self):
+        network = network_of()
+        network.store("q", "x", 4)
+        network.publish("p", "x", overrides=(entry(1, "d"),))
+        network.store("p", "y", 4, overrides=((1, "p", dealt(without={("b", 0)}, instead=[share("b", 0, 2)])),))
+        # Share 0 is announced in round 5, and d got its shares of round 1, but d takes no part.
+        self.assertEqual(sent(network, 2, 5), [("p", "", ("share", NAME, 0, 1))])
+        self.assertEqual((network.shares_at("d", "y"), network.shares_at("c", "y")), ((0, 0, 0, None), (1, 2, None, 5)))
+        self.assertEqual((network.exposed(), network.disputes()), (("d",), (("b", "p"),)))
+        # Now share 0 is broadcast from the beginning.
+        network.store("p", "z", 4)
+        self.assertEqual((network.shares_at("d", "z"), network.shares_at("c", "z")), ((0, 0, 0, None), (1, 2, None, 5)))
+
     def test_a_dispute_with_an_exposed_holder_is_no_reason_to_broadcast(self):
         network = network_of()
         # d contradicts p, and is exposed for its silence afterwards.
@@ -372,6 +385,53 @@ class AfterwardsTest(unittest.TestCase):
         self.assertEqual(network.exposed(), ("d",))
         self.assertEqual(network.shares_at("d", "x"), (1, 2, 3, None))
         self.assertEqual(sent(network, 0, 4, "d"), [("d", "", ("claim", NAME, 0, 1))])
+
+
+class TogetherTest(unittest.TestCase):
+    """Servers of one fault set, and the client that deals, deviate together."""
+
+    def network(self, faulty=("c", "d", "p")):
+        return Network(SEVEN, faulty, (("p", (3,) * 9), ("q", (3,) * 9)))
+
+    def test_both_sides_of_a_complaint_are_silent(self):
+        network = self.network()
+        network.store("q", "x", 4, overrides=(
+            (3, "c", (("", ("complaint", ("q",), 0, 3)),)), entry(4, "c"), entry(4, "d")))
+        self.assertEqual((network.exposed(), network.disputes()), (("c", "d"), ()))
+        self.assertEqual((network.expected_value("x"), network.incident_count()), (4, 1))
+
+    def test_one_side_of_a_complaint_is_silent(self):
+        network = self.network()
+        network.store("q", "x", 4, overrides=((3, "c", (("", ("complaint", ("q",), 0, 3)),)), entry(4, "c")))
+        self.assertEqual((network.exposed(), network.disputes()), (("c",), ()))
+
+    def test_a_faulty_holder_may_keep_another_number(self):
+        # a gets another share 1 than all others, tells them theirs, and complains about nobody.
+        for number in range(7):
+            network = self.network(("a", "b", "p"))
+            messages = [("a", ("share", NAME, 1, number))]
+            messages += [(holder, ("share", NAME, 1, 6)) for holder in "befg"]
+            messages += [(holder, ("share", NAME, 0, 3)) for holder in "cdefg"]
+            echoes = tuple((holder, ("echo", NAME, 1, 6)) for holder in "befg")
+            network.store("p", "x", 0, overrides=((1, "p", tuple(messages)), (2, "a", echoes), entry(3, "a")))
+            self.assertEqual(network.shares_at("a", "x"), (None, number))
+            self.assertEqual([network.shares_at(holder, "x") for holder in "be"], [(None, 6), (3, 6)])
+            self.assertEqual((network.expected_value("x"), network.incident_count()), (2, 0))
+            # In a read it reports what it has.
+            self.assertEqual(network.read("q", "x"), (2, () if number == 6 else ("a",)))
+            self.assertEqual(network.publish("q", "x"), 2)
+            self.assertEqual(network.exposed(), () if number == 6 else ("a",))
+
+    def test_a_single_honest_holder(self):
+        # Of the holders c, d and e of share 0 only e is honest.
+        scheme = (5, ("a", "b", "c", "d", "e"), ("p",), (("a", "b"), ("c", "d")), (("a",), ("c", "d")))
+        network = Network(scheme, ("c", "d", "p"), (("p", (1,) * 9),))
+        messages = (("c", ("share", NAME, 0, 2)), ("d", ("share", NAME, 0, 2)), ("e", ("share", NAME, 0, 4)))
+        quiet = tuple((turn, party, ()) for turn in (2, 3) for party in ("c", "d"))
+        network.store("p", "x", 3, overrides=((1, "p", messages),) + quiet)
+        self.assertEqual([network.shares_at(holder, "x")[0] for holder in "cde"], [2, 2, 4])
+        self.assertEqual((network.expected_value("x"), network.publish("p", "x")), (4, 4))
+        self.assertEqual((network.exposed(), network.disputes()), (("c", "d"), ()))
 
 
 class CertaintyTest(unittest.TestCase):

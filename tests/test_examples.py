@@ -1,11 +1,13 @@
-"""The examples of the document, as they stand there, for the modules that exist."""
+"""The examples of the document, as they stand there, for the modules that exist, and those of the README."""
 
 import pathlib
 import unittest
 
 from lotkept import errors
 
-EXAMPLES = pathlib.Path(__file__).with_name("document_examples.txt").read_text().strip().split("\n\n")
+HERE = pathlib.Path(__file__).resolve().parent
+EXAMPLES = (HERE / "document_examples.txt").read_text().strip().split("\n\n")
+README = (HERE.parent / "README.md").read_text()
 
 
 def run(line, names):
@@ -32,8 +34,7 @@ class ExampleTest(unittest.TestCase):
             expected = eval(shown, vars(errors) | {})
             self.assertEqual(attributes(caught.exception), attributes(expected), shown)
 
-    def check(self, example):
-        names = {}
+    def check(self, example, names):
         lines = example.split("\n")
         for at, line in enumerate(lines):
             if not line.startswith(">>> "):
@@ -49,11 +50,19 @@ class ExampleTest(unittest.TestCase):
     def test_every_example(self):
         for example in EXAMPLES:
             with self.subTest(example=example):
-                self.check(example)
+                self.check(example, {})
 
     def test_there_are_results_to_compare(self):
         shown = [line for example in EXAMPLES for line in example.split("\n") if not line.startswith(">>> ")]
         self.assertEqual((len(EXAMPLES), len(shown)), (37, 37))
+
+    def test_the_examples_of_the_readme(self):
+        names = {}
+        blocks = [block.strip() for block in README.split("```") if block.strip().startswith(">>> ")]
+        self.assertEqual(len(blocks), 2)
+        for block in blocks:
+            # They follow one another, so the second one has the names of the first one.
+            self.check(block, names)
 
 
 if __name__ == "__main__":

@@ -257,6 +257,17 @@ class FailureTest(ProductTest):
         self.assertFalse({("b", "d"), ("d", "b")} & {row[:2] for row in sent(network, 2, 2)})
         self.check_value(network, (), (("b", "d"),), 1)
 
+    def test_a_dealer_has_what_it_broadcast(self):
+        # b broadcasts 5 instead of 0 as share 2 of its dealing, and has no other number from then on.
+        case = self.disputed().change(1, "b", replaced(("share", ("b", 0, 0), 2), 5))
+        self.assertIn(("", ("share", ("b", 0, 0), 2, 5)), case.required(1, "b"))
+        network = case.run()
+        told = {payload[5] for _, _, payload in sent(network, 2, 6) if payload[1:5] == (0, 0, 2, 2)}
+        self.assertEqual(told, {2})
+        told = {payload[5] for _, _, payload in sent(network, 2, 7, "b") if payload[:5] == ("dealt", 0, 0, 1, 2)}
+        self.assertEqual(told, {5})
+        self.check_value(network, ("b",), (("b", "d"),), 2)
+
     def test_a_dealer_that_fails_in_round_1(self):
         case = self.disputed().change(1, "b", replaced(("share", ("b", 2, 3), 0), None))
         network = case.run()
