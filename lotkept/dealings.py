@@ -27,6 +27,10 @@ class Dealing:
             for index, share in enumerate(split_value(scheme, value, numbers)):
                 self._shares.append(DealtShare(scheme, state, name, index, share))
 
+    def turn_count(self):
+        """Return how many rounds the dealing takes."""
+        return ROUNDS_OF_DEALING
+
     def required(self, turn, party):
         """Return the messages that are required of the party in a round."""
         if self.has_failed:

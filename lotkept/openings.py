@@ -6,7 +6,6 @@ from lotkept.schemes import share_count
 from lotkept.shares import combine_shares
 from lotkept.states import active_holders
 
-ROUNDS_OF_OPENING = 1
 REPORT = "report"
 
 
@@ -19,6 +18,10 @@ class Opening:
         self._parts = parts
         self._recipient = recipient
         self._reports = []
+
+    def turn_count(self):
+        """Return how many rounds the operation takes."""
+        return 1
 
     def required(self, turn, party):
         """Return the messages that are required of the party in a round."""

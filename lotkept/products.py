@@ -9,13 +9,16 @@ from lotkept.terms import Term
 ROUNDS_OF_PRODUCT = 7
 
 
+def pairs_dealt_by(scheme, state, server):
+    """Return the indexes a, b of the terms of which a server deals its part, in the order of its random numbers."""
+    held = [index for index in range(share_count(scheme)) if server in active_holders(scheme, state, index)]
+    return [(first, second) for first in held for second in held]
+
+
 def numbers_per_product(scheme, state):
     """Return how many random numbers each server needs for a multiplication."""
-    needs = {server: 0 for server in scheme[1]}
-    for first, second in _pairs(scheme):
-        for dealer in _dealers(scheme, state, first, second):
-            needs[dealer] += numbers_per_dealing(scheme)
-    return needs
+    many = numbers_per_dealing(scheme)
+    return {server: many * len(pairs_dealt_by(scheme, state, server)) for server in scheme[1]}
 
 
 class Product:
@@ -24,18 +27,19 @@ class Product:
     def __init__(self, scheme, state, factors, numbers):
         self._scheme = scheme
         self._turn = 0
-        self._terms = []
-        # Where the next dealing of each server begins among its random numbers.
-        starts = {server: 0 for server in scheme[1]}
-        for pair in _pairs(scheme):
-            dealings = []
-            for dealer in _dealers(scheme, state, pair[0], pair[1]):
-                start = starts[dealer]
-                starts[dealer] = start + numbers_per_dealing(scheme)
+        indexes = range(share_count(scheme))
+        dealings = {(first, second): [] for first in indexes for second in indexes}
+        many = numbers_per_dealing(scheme)
+        for dealer in scheme[1]:
+            for at, pair in enumerate(pairs_dealt_by(scheme, state, dealer)):
                 value = factors[0][dealer][pair[0]] * factors[1][dealer][pair[1]]
-                own = numbers[dealer][start:starts[dealer]]
-                dealings.append(Dealing(scheme, state, (dealer,) + pair, value, own))
-            self._terms.append(Term(scheme, state, pair, factors, dealings))
+                own = numbers[dealer][many * at:many * (at + 1)]
+                dealings[pair].append(Dealing(scheme, state, (dealer,) + pair, value, own))
+        self._terms = [Term(scheme, state, pair, factors, dealings[pair]) for pair in dealings]
+
+    def turn_count(self):
+        """Return how many rounds the multiplication takes."""
+        return ROUNDS_OF_PRODUCT
 
     def required(self, turn, party):
         """Return the messages that are required of the party in a round."""
@@ -73,14 +77,3 @@ class Product:
         failed = [dealer for term in self._terms for dealer in term.failed_dealers()]
         for term in self._terms:
             term.leave_out(failed)
-
-
-def _pairs(scheme):
-    indexes = range(share_count(scheme))
-    return [(first, second) for first in indexes for second in indexes]
-
-
-def _dealers(scheme, state, first, second):
-    """Return the servers that hold both shares and are not exposed."""
-    other = active_holders(scheme, state, second)
-    return [server for server in active_holders(scheme, state, first) if server in other]

@@ -5,11 +5,11 @@ from lotkept.overrides import forged_messages
 from lotkept.schemes import all_parties
 
 
-def run_rounds(scheme, protocol, count, overrides):
-    """Run this many rounds of a protocol, and return the messages (sender, recipient, payload) of each one."""
+def run_rounds(scheme, protocol, overrides):
+    """Run the rounds of a protocol, and return the messages (sender, recipient, payload) of each one."""
     forged = forged_messages(overrides)
     rounds = []
-    for turn in range(1, count + 1):
+    for turn in range(1, protocol.turn_count() + 1):
         messages = []
         for party in all_parties(scheme):
             if (turn, party) in forged:

@@ -1,6 +1,7 @@
 """Terms of a product: share a of one value times share b of another one."""
 
 from lotkept.dealings import ROUNDS_OF_DEALING
+from lotkept.errors import InvalidLog
 from lotkept.reports import settle
 from lotkept.schemes import share_count
 from lotkept.shares import combine_shares, part_of_server, public_shares
@@ -50,6 +51,9 @@ class Term:
     def leave_out(self, dealers):
         """Keep only the dealings of other dealers as remaining ones."""
         self._remaining = [dealing for dealing in self._dealings if dealing.dealer not in dealers]
+        if len(self._remaining) == 0:
+            # In a network some dealer is honest; only a log may tell that all of them failed.
+            raise InvalidLog("no dealing of a term remains")
 
     def part_of(self, server):
         """Return what a server has of the term after round 7."""

@@ -54,7 +54,7 @@ class ExampleTest(unittest.TestCase):
 
     def test_there_are_results_to_compare(self):
         shown = [line for example in EXAMPLES for line in example.split("\n") if not line.startswith(">>> ")]
-        self.assertEqual((len(EXAMPLES), len(shown)), (37, 37))
+        self.assertEqual((len(EXAMPLES), len(shown)), (42, 42))
 
     def test_the_examples_of_the_readme(self):
         names = {}

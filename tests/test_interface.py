@@ -18,6 +18,10 @@ FUNCTIONS = (
     ("lotkept.shares", "combine_shares", ("scheme", "shares")),
     ("lotkept.reports", "correct_value", ("scheme", "index", "reports")),
     ("lotkept.faults", "identify_faulty", ("scheme", "exposed", "disputes")),
+    ("lotkept.scenarios", "is_scenario", ("thing",)),
+    ("lotkept.scenarios", "run_scenario", ("scenario",)),
+    ("lotkept.equivalence", "equivalent_scenario", ("scenario", "observers", "values")),
+    ("lotkept.logs", "party_log", ("network", "party")),
 )
 # For each class, its methods: their arguments, and whether they take overrides by name.
 CLASSES = (
