@@ -19,9 +19,15 @@ def equivalent_scenario(scenario, observers, values):
         raise InvalidObservers(observers)
     shift = Shift(scheme, faulty, randomness, observers, values)
     changed = []
-    for word, arguments, overrides in operations:
-        changed.append(shift.follow(word, arguments, overrides))
+    for step in operations:
+        changed.append(shift.follow(step))
     return scheme, faulty, shift.shifted_randomness(), tuple(changed)
+
+
+def is_free_store(step, observers):
+    """Return whether an operation of a scenario stores the value of a client that does not observe."""
+    word, arguments, _ = step
+    return word == "store" and arguments[0] not in observers
 
 
 class Shift:
@@ -41,23 +47,24 @@ class Shift:
         self._values = values
         self._replaced = 0
         # For each key, the value in the other scenario minus the given one.
-        self._differences = {}
+        self._value_differences = {}
         # For each party, what is added to its random numbers with these indexes.
         self._additions = {party: {} for party, _ in randomness}
 
-    def follow(self, word, arguments, overrides):
+    def follow(self, step):
         """Run the next operation of the given scenario, and return that of the other one."""
+        word, arguments, overrides = step
         if self._shows_difference(word, arguments):
             raise NotEquivalent(self._network.operation_count())
         changed = arguments
-        if word == "store" and arguments[0] not in self._observers:
+        if is_free_store(step, self._observers):
             changed = arguments[:2] + (self._values[self._replaced],)
             self._replaced += 1
             self._shift_dealing(arguments[0], 0, changed[2] - arguments[2])
         if word == "multiply":
             self._shift_products(arguments[2], arguments[3])
         if creates_key(word):
-            self._differences[arguments[1]] = self._difference(word, arguments, changed) % self._scheme[0]
+            self._value_differences[arguments[1]] = self._difference(word, arguments, changed) % self._scheme[0]
         perform(self._network, word, arguments, overrides)
         # The two scenarios have no list and no dict in common.
         return word, changed, copied(overrides)
@@ -69,8 +76,8 @@ class Shift:
     def _shows_difference(self, word, arguments):
         """Return whether an observer gets a value that differs."""
         if word == "read":
-            return arguments[0] in self._observers and self._differences[arguments[1]] != 0
-        return word == "publish" and self._differences[arguments[1]] != 0
+            return arguments[0] in self._observers and self._value_differences[arguments[1]] != 0
+        return word == "publish" and self._value_differences[arguments[1]] != 0
 
     def _difference(self, word, arguments, changed):
         """Return the difference of the value that the operation keeps."""
@@ -78,12 +85,12 @@ class Shift:
             return changed[2] - arguments[2]
         if word == "scale":
             _, _, factor, first = arguments
-            return factor * self._differences[first]
+            return factor * self._value_differences[first]
         _, _, first, second = arguments
         if word == "add":
-            return self._differences[first] + self._differences[second]
+            return self._value_differences[first] + self._value_differences[second]
         left, right = self._network.expected_value(first), self._network.expected_value(second)
-        return _product_difference(left, self._differences[first], right, self._differences[second])
+        return _product_difference(left, self._value_differences[first], right, self._value_differences[second])
 
     def _shift_products(self, first, second):
         """Note how the dealings of a multiplication differ."""
@@ -97,7 +104,7 @@ class Shift:
     def _factor(self, server, key, index):
         """Return what a server has of a share, and how it differs."""
         share = self._network.shares_at(server, key)[index]
-        return share, self._differences[key] if index == self._hidden else 0
+        return share, self._value_differences[key] if index == self._hidden else 0
 
     def _shift_dealing(self, dealer, at, difference):
         """Note that the value differs in the dealing before which a party deals `at` others in this operation."""

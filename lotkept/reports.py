@@ -1,9 +1,16 @@
 """Reports on shares: ascending tuples of (holder, value) pairs for some holders of a share, one for each."""
 
 from lotkept.errors import NoCorrectValue
-from lotkept.party_sets import is_subset
-from lotkept.schemes import holders
+from lotkept.party_sets import is_ascending, is_subset
+from lotkept.schemes import holders, is_value
 from lotkept.states import active_holders
+
+
+def are_reports(scheme, index, thing):
+    """Return whether any value is an ascending tuple of reports on a share, one for each of some holders."""
+    if not isinstance(thing, tuple) or not all(_is_report(scheme, index, entry) for entry in thing):
+        return False
+    return is_ascending([holder for holder, _ in thing])
 
 
 def correct_value(scheme, index, reports):
@@ -32,3 +39,9 @@ def settle(scheme, state, index, mail, parts):
     reports = accepted_reports(scheme, state, index, mail, "", parts)
     correct = correct_value(scheme, index, reports)
     return correct, holders_without(active_holders(scheme, state, index), reports, correct)
+
+
+def _is_report(scheme, index, thing):
+    if not isinstance(thing, tuple) or len(thing) != 2:
+        return False
+    return thing[0] in holders(scheme, index) and is_value(scheme, thing[1])

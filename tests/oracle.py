@@ -14,7 +14,7 @@ def same(first, second):
     if isinstance(first, (tuple, list)):
         return len(first) == len(second) and all(map(same, first, second))
     if isinstance(first, dict):
-        return list(first) == list(second) and all(same(first[key], second[key]) for key in first)
+        return same(list(first), list(second)) and all(same(first[key], second[key]) for key in first)
     return first == second
 
 

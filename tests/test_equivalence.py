@@ -10,18 +10,10 @@ from tests.any_values import any_values
 from tests.forgeries import random_case, random_numbers
 from tests.helpers import FIVE, FOUR, ONE_SHARE, THREE, TWO, numbers_for, outcome, zeros_for
 from tests.oracle import same
-from tests.twins import Twins, random_observers
+from tests.twins import Twins, free_stores, random_observers, random_values
 
 DENSE = (3, ("a", "b", "c", "d", "e"), ("p", "q"), FIVE[3][:4], FIVE[3][:4])
 PAIRS = (7, ("a", "b", "c", "d", "e"), ("p", "q"), (("a", "b"), ("b", "c"), ("c", "d")), (("a",), ("b",)))
-
-
-def free_stores(scenario, observers):
-    """The places of the stores by clients that do not observe."""
-    return [
-        at for at, (word, arguments, _) in enumerate(scenario[3])
-        if word == "store" and arguments[0] not in observers
-    ]
 
 
 def by_twins(scenario, observers, values):
@@ -201,10 +193,7 @@ class EquivalenceTest(unittest.TestCase):
             with self.subTest(seed=seed):
                 scenario = random_case(chance, 8, chance.random() < 0.4)
                 observers = random_observers(chance, scenario[0], scenario[1])
-                values = tuple(
-                    chance.choice((chance.randrange(scenario[0][0]), scenario[3][at][1][2]))
-                    for at in free_stores(scenario, observers)
-                )
+                values = random_values(chance, scenario, observers)
                 kinds[type(self.check(scenario, observers, values)).__name__] += 1
         self.assertGreater(min(kinds.values()), 30)
 
@@ -220,7 +209,7 @@ class EquivalenceTest(unittest.TestCase):
                     operations.append((word, (chance.choice("pq"), *keys), ()))
                 scenario = (scheme, (), random_numbers(chance, scheme, 150), tuple(operations))
                 observers = random_observers(chance, scheme, ())
-                values = tuple(chance.randrange(scheme[0]) for _ in free_stores(scenario, observers))
+                values = random_values(chance, scenario, observers)
                 self.assertIsInstance(self.check(scenario, observers, values), tuple)
 
     def test_the_result_has_no_list_in_common_with_the_argument(self):

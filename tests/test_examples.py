@@ -1,4 +1,4 @@
-"""The examples of the document, as they stand there, for the modules that exist, and those of the README."""
+"""The examples of the document, as they stand there, and those of the README."""
 
 import pathlib
 import unittest
@@ -54,14 +54,14 @@ class ExampleTest(unittest.TestCase):
 
     def test_there_are_results_to_compare(self):
         shown = [line for example in EXAMPLES for line in example.split("\n") if not line.startswith(">>> ")]
-        self.assertEqual((len(EXAMPLES), len(shown)), (42, 42))
+        self.assertEqual((len(EXAMPLES), len(shown)), (53, 53))
 
     def test_the_examples_of_the_readme(self):
         names = {}
         blocks = [block.strip() for block in README.split("```") if block.strip().startswith(">>> ")]
-        self.assertEqual(len(blocks), 2)
+        self.assertEqual(len(blocks), 4)
         for block in blocks:
-            # They follow one another, so the second one has the names of the first one.
+            # They follow one another, so each one has the names of those before.
             self.check(block, names)
 
 

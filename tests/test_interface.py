@@ -22,6 +22,10 @@ FUNCTIONS = (
     ("lotkept.scenarios", "run_scenario", ("scenario",)),
     ("lotkept.equivalence", "equivalent_scenario", ("scenario", "observers", "values")),
     ("lotkept.logs", "party_log", ("network", "party")),
+    ("lotkept.log_checks", "first_deviation", ("scheme", "party", "thing")),
+    ("lotkept.scheme_text", "format_scheme", ("scheme",)),
+    ("lotkept.scheme_text", "parse_scheme", ("text",)),
+    ("lotkept.claims", "claim_holds", ("thing",)),
 )
 # For each class, its methods: their arguments, and whether they take overrides by name.
 CLASSES = (
@@ -45,6 +49,11 @@ CLASSES = (
         ("messages", (), False),
         ("incident_count", (), False),
         ("view", ("observers",), False),
+    )),
+    ("lotkept.console", "Console", (
+        ("__init__", ("scheme", "faulty", "randomness"), False),
+        ("network", (), False),
+        ("run", ("line",), False),
     )),
 )
 

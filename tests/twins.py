@@ -18,6 +18,21 @@ def random_observers(chance, scheme, faulty):
     return tuple(sorted(observers))
 
 
+def free_stores(scenario, observers):
+    """The places of the stores by clients that do not observe."""
+    return [
+        at for at, (word, arguments, _) in enumerate(scenario[3])
+        if word == "store" and arguments[0] not in observers
+    ]
+
+
+def random_values(chance, scenario, observers):
+    """Values for these stores, some of them the old ones."""
+    return tuple(
+        chance.choice((chance.randrange(scenario[0][0]), scenario[3][at][1][2])) for at in free_stores(scenario, observers)
+    )
+
+
 class Twins:
     """The two networks; the second one is built once more whenever its random numbers change."""
 
