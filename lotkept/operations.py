@@ -32,7 +32,9 @@ def perform(network, word, arguments, overrides):
     if word == "store":
         return network.store(*arguments, overrides=overrides)
     if word == "add":
-        return network.add(*arguments, overrides=overrides)
+        # Sets have an `add`, too, and L7 lets no call of such a name have a star.
+        client, key, first, second = arguments
+        return network.add(client, key, first, second, overrides=overrides)
     if word == "scale":
         return network.scale(*arguments, overrides=overrides)
     if word == "multiply":

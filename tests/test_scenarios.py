@@ -126,8 +126,11 @@ class RunScenarioTest(unittest.TestCase):
 
     def check(self, scenario):
         before = copy.deepcopy(scenario)
-        expected = state_of(self.directly(scenario), scenario[0])
-        self.assertEqual(state_of(run_scenario(scenario), scenario[0]), expected)
+        network, directly = run_scenario(scenario), self.directly(scenario)
+        expected = state_of(directly, scenario[0])
+        self.assertEqual(state_of(network, scenario[0]), expected)
+        # The sum of two values is the same in either order, but they are kept in the order in which they were given.
+        self.assertEqual(repr(network.history()), repr(directly.history()))
         self.assertEqual(state_of(run_scenario(scenario=scenario), scenario[0]), expected)
         self.assertEqual(repr(scenario), repr(before))
 
@@ -170,6 +173,8 @@ class RunScenarioTest(unittest.TestCase):
             (("store", ("p", "y", True), ()), "InvalidValue", {"value": True}),
             (("read", ("p", "x"), ((1, "a", ()),)), "InvalidOverrides", {"value": ((1, "a", ()),)}),
             (("read", ("p", "x"), None), "InvalidOverrides", {"value": None}),
+            (("add", ("p", "z", "x", "x"), ((1, "p", ()),)), "InvalidOverrides", {"value": ((1, "p", ()),)}),
+            (("scale", ("p", "z", 3, "x"), ((1, "p", ()),)), "InvalidOverrides", {"value": ((1, "p", ()),)}),
             (("multiply", ("p", "y", "x", "x"), ()), "RandomnessExhausted", {"party": "a"}),
             (("store", ("p", "y", 1), ()), "RandomnessExhausted", {"party": "p"}),
         )
